@@ -1,0 +1,1 @@
+"""Exact simulation of processes that wait for one another."""
