@@ -89,6 +89,10 @@ class Line:
         """Return (rank, process) for all waiting requests, in the order in which they will be served."""
         return tuple([self._requests[at][:2] for at in self._served()])
 
+    def requests(self):
+        """Return (rank, process, whether it holds a unit) for all requests, in the order of their numbers."""
+        return tuple(self._requests)
+
     def _served(self):
         """Return the places of the waiting requests, in the order in which they will be served."""
         return [at for at, row in enumerate(self._requests) if not row[2]]

@@ -53,6 +53,8 @@ NOT_STRINGS = (
     0, 1, -1, 12, True, False, None, (), ("wait",), ("fifo",), ("open",), [], ["wait"], ["fifo"], ["open"],
     {}, {"wait": 1}, {"fifo": 1},
 )
+NO_TIMES = (-1, 201, 202, 10 ** 11, -(10 ** 11), *NOT_INTEGERS)
+NO_MODELS = ((), None, True, 0, "model", [], {}, list(SHOP), SHOP[:3], SHOP + ((),), ((), (), (), ()))
 
 
 def solo(*script):
@@ -85,3 +87,34 @@ def places(thing, path=()):
 def words(*names):
     """One mark for each number: a short script whose parts can be told apart."""
     return tuple(("mark", name) for name in names)
+
+
+# Two processes, each of which holds what the other one takes next.
+CROSS = (
+    (("fifo", 1), ("fifo", 1)),
+    (),
+    (),
+    (
+        (("take", 0, 0), ("wait", 1), ("take", 1, 0), ("give", 1), ("give", 0)),
+        (("take", 1, 0), ("wait", 1), ("take", 0, 0), ("give", 0), ("give", 1)),
+    ),
+)
+
+
+def acts(text, *further):
+    """A script from a text like "take 0 5, wait 3, give 0"; instructions with bodies follow as they are."""
+    rows = []
+    for part in text.split(", ") if text else []:
+        word, *numbers = part.split(" ")
+        rows.append((word, *(int(number) for number in numbers)))
+    return tuple(rows) + further
+
+
+def made(*scripts, resources=(), stores=(), gates=()):
+    """A model with these parts; a script is a tuple, or a text as in acts."""
+    return resources, stores, gates, tuple(acts(part) if isinstance(part, str) else part for part in scripts)
+
+
+def told(rows):
+    """Events as texts like "3 1 hold 0"."""
+    return [" ".join([str(part) for part in row]) for row in rows]

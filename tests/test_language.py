@@ -20,6 +20,8 @@ BANNED_WORDS = {
     "type", "typing", "typing_extensions", "enum", "Enum", "IntEnum", "StrEnum", "Flag", "IntFlag", "Generic",
     "Protocol", "ABC", "ABCMeta", "namedtuple", "NamedTuple", "TypedDict", "TYPE_CHECKING", "abstractmethod",
 }
+# What may be imported from outside of the package; such names are only called, in functions.
+LIBRARY = {"math": {"gcd"}}
 METHODS_WITH_UNDERSCORES = {"__init__", "__eq__", "__repr__", "__len__", "__enter__", "__exit__"}
 
 
@@ -95,11 +97,27 @@ class Modules(unittest.TestCase):
         for file in FILES:
             for node in ast.walk(tree_of(file)):
                 self.assertNotIsInstance(node, ast.Import, file.name)
-                if isinstance(node, ast.ImportFrom):
+                if isinstance(node, ast.ImportFrom) and node.module in LIBRARY:
+                    self.assertLessEqual({alias.name for alias in node.names}, LIBRARY[node.module], file.name)
+                elif isinstance(node, ast.ImportFrom):
                     self.assertTrue(node.module.startswith("eventsim."), (file.name, node.module))
                     source = PACKAGE / (node.module.split(".")[1] + ".py")
                     for alias in node.names:
                         self.assertIn(alias.name, defined(tree_of(source)), file.name)
+
+    def test_no_two_files_import_from_each_other(self):
+        imports = {
+            file.stem: {
+                node.module.split(".")[1] for node in ast.walk(tree_of(file))
+                if isinstance(node, ast.ImportFrom) and node.module.startswith("eventsim.")
+            }
+            for file in FILES
+        }
+        while imports:
+            free = [name for name, needed in imports.items() if not needed & set(imports)]
+            self.assertTrue(free, sorted(imports))
+            for name in free:
+                del imports[name]
 
     def test_imports_are_used(self):
         for file in FILES:
@@ -124,6 +142,66 @@ class Modules(unittest.TestCase):
             for node in ast.walk(tree):
                 if isinstance(node, ast.Name):
                     self.assertIn(node.id, known, (file.name, node.lineno))
+
+
+    def test_no_variable_is_called_like_a_class_or_an_import(self):
+        for file in FILES:
+            tree = tree_of(file)
+            barred = {node.name for node in tree.body if isinstance(node, ast.ClassDef)}
+            for node in tree.body:
+                if isinstance(node, ast.ImportFrom):
+                    barred |= {alias.name for alias in node.names}
+            for node in ast.walk(tree):
+                if isinstance(node, ast.arg) or isinstance(node, ast.Name) and isinstance(node.ctx, ast.Store):
+                    self.assertNotIn(bound(node)[0], barred, (file.name, node.lineno))
+
+
+class Classes(unittest.TestCase):
+
+    def setUp(self):
+        self.methods, self.properties, self.assigned = {}, set(), {}
+        for file in FILES:
+            for node in ast.walk(tree_of(file)):
+                if isinstance(node, ast.ClassDef):
+                    self.read_class(node)
+
+    def read_class(self, node):
+        names = [part for part in node.body if isinstance(part, ast.FunctionDef)]
+        self.methods[node.name] = [part.name for part in names if not part.decorator_list]
+        self.properties |= {
+            part.name for part in names
+            if any(isinstance(row, ast.Name) and row.id == "property" for row in part.decorator_list)
+        }
+        self.assigned[node.name] = {
+            part.attr for part in ast.walk(node) if isinstance(part, ast.Attribute) and isinstance(part.ctx, ast.Store)
+        }
+
+    def test_no_name_is_a_method_and_an_attribute(self):
+        for name, methods in self.methods.items():
+            self.assertEqual(len(methods), len(set(methods)), name)
+            self.assertEqual(set(methods) & self.assigned[name], set(), name)
+
+    def test_no_attribute_has_the_name_of_a_property_or_of_a_method_of_builtin_values(self):
+        barred = {
+            "items", "keys", "values", "pop", "update", "append", "clear", "extend", "insert", "remove", "reverse",
+            "setdefault", "sort", "args", "encode", "decode", "hex", "fromhex", "format",
+        }
+        for name, attributes in self.assigned.items():
+            self.assertEqual(attributes & (self.properties | barred), set(), name)
+
+    def test_attributes_are_assigned_through_local_names(self):
+        for file in FILES:
+            for node in ast.walk(tree_of(file)):
+                if isinstance(node, ast.Attribute) and isinstance(node.ctx, ast.Store):
+                    self.assertIsInstance(node.value, ast.Name, (file.name, node.lineno))
+
+    def test_attributes_that_are_read_are_assigned_somewhere(self):
+        known = set().union(*self.assigned.values(), *self.methods.values()) | self.properties
+        known |= set(dir(list)) | set(dir(dict)) | set(dir(str)) | {"MOST_UNITS", "__name__"}
+        for file in FILES:
+            for node in ast.walk(tree_of(file)):
+                if isinstance(node, ast.Attribute):
+                    self.assertIn(node.attr, known, (file.name, node.lineno))
 
 
 class Words(unittest.TestCase):
