@@ -9,6 +9,13 @@ class Agenda:
         self._entries = {}
         self._made = 0
 
+    def copy(self):
+        """Return an equal agenda; later entries of one do not affect the other."""
+        twin = Agenda()
+        twin._entries = dict(self._entries)
+        twin._made = self._made
+        return twin
+
     def enter(self, time, process):
         """Make an entry for a process that has none."""
         self._entries[process] = (time, self._made)
@@ -26,5 +33,5 @@ class Agenda:
 
     def rows(self):
         """Return a list of (time, process) for all entries, in the order in which they come up."""
-        entries = [(time, number, process) for process, (time, number) in self._entries.items()]
+        entries = [(*self._entries[process], process) for process in self._entries]
         return [(time, process) for time, _, process in sorted(entries)]

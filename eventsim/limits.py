@@ -15,4 +15,6 @@ LAST_ITEM = 99
 LAST_MARK = 999
 LAST_TIME = 200
 
-MOST_EVENTS = 3000
+# How many digits a number may have in a text, and in the text of a model.
+MOST_DIGITS = 12
+MOST_DIGITS_IN_MODELS = 4000

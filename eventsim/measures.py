@@ -1,11 +1,10 @@
 """Measures: waiting times, lengths of lines, what is held, what flows, and marks."""
 
-from math import gcd
-
 from eventsim.checks import check_index, check_number, check_time
 from eventsim.holdings import Holding
 from eventsim.limits import LAST_MARK, LAST_TIME
 from eventsim.models import check_model
+from eventsim.ratios import reduced
 from eventsim.runs import Run
 
 
@@ -91,9 +90,7 @@ def busy(model, resource, horizon):
     check_index(resource, model[0], "the resource")
     check_number(horizon, 1, LAST_TIME, "the horizon")
     held = sum([end - start for _, start, end in holds(model, resource, horizon)])
-    whole = model[0][resource][1] * horizon
-    common = gcd(held, whole)
-    return held // common, whole // common
+    return reduced(held, model[0][resource][1] * horizon)
 
 
 def flow(model, store, horizon):

@@ -46,10 +46,10 @@ def has_parts(thing):
         and len(stores) <= MOST_STORES
         and len(gates) <= MOST_GATES
         and 1 <= len(scripts) <= MOST_SCRIPTS
-        and all([_is_resource(part) for part in resources])
-        and all([_is_store(part) for part in stores])
+        and all([is_resource(part) for part in resources])
+        and all([is_store(part) for part in stores])
         and all([gate in GATE_WORDS for gate in gates])
-        and _are_scripts(scripts, _last_numbers(resources, stores, gates, scripts))
+        and _are_scripts(scripts, last_numbers(len(resources), len(stores), len(gates), len(scripts)))
     )
 
 
@@ -64,27 +64,29 @@ def _is_tuple(thing, least, most):
     return isinstance(thing, tuple) and is_between(len(thing), least, most)
 
 
-def _is_resource(thing):
+def is_resource(thing):
+    """Return whether a value is a resource of a model."""
     return _is_tuple(thing, 2, 2) and thing[0] in DISCIPLINES and is_between(thing[1], 1, Line.MOST_UNITS)
 
 
-def _is_store(thing):
+def is_store(thing):
+    """Return whether a value is a store of a model."""
     if not _is_tuple(thing, 2, 2) or not is_between(thing[0], 1, MOST_CAPACITY):
         return False
     capacity, items = thing
     return _is_tuple(items, 0, capacity) and all([is_between(item, 0, LAST_ITEM) for item in items])
 
 
-def _last_numbers(resources, stores, gates, scripts):
-    """Return the greatest number of each kind that an instruction may have."""
+def last_numbers(resources, stores, gates, scripts):
+    """Return the greatest number of each kind that an instruction may have, where there are so many of each part."""
     return {
         "time": None,
-        "resource": len(resources) - 1,
+        "resource": resources - 1,
         "rank": LAST_RANK,
-        "store": len(stores) - 1,
+        "store": stores - 1,
         "item": LAST_ITEM,
-        "gate": len(gates) - 1,
-        "process": len(scripts) - 1,
+        "gate": gates - 1,
+        "process": scripts - 1,
         "mark": LAST_MARK,
     }
 
@@ -120,10 +122,14 @@ def _is_instruction(thing, last, depth):
         return False
     if thing[0] == "repeat":
         return _is_repeat(thing, last, depth)
-    if thing[0] not in KINDS:
+    return is_plain(thing[0], thing[1:], last)
+
+
+def is_plain(word, numbers, last):
+    """Return whether a word and the numbers behind it are an instruction without a body."""
+    if word not in KINDS:
         return False
-    kinds = KINDS[thing[0]]
-    numbers = thing[1:]
+    kinds = KINDS[word]
     return len(numbers) == len(kinds) and all(
         [is_between(number, 0, last[kind]) for number, kind in zip(numbers, kinds)]
     )

@@ -11,6 +11,13 @@ class Store:
         self.getters = []
         self.putters = []
 
+    def copy(self):
+        """Return an equal store; what happens to one does not affect the other."""
+        twin = Store(self.capacity, self.kept)
+        twin.getters = list(self.getters)
+        twin.putters = list(self.putters)
+        return twin
+
     def is_full(self):
         """Return whether no further item can be added."""
         return len(self.kept) == self.capacity
@@ -22,3 +29,9 @@ class Gate:
     def __init__(self, word):
         self.word = word
         self.passers = []
+
+    def copy(self):
+        """Return an equal gate; what happens to one does not affect the other."""
+        twin = Gate(self.word)
+        twin.passers = list(self.passers)
+        return twin

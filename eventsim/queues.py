@@ -93,6 +93,15 @@ class Line:
         """Return (rank, process, whether it holds a unit) for all requests, in the order of their numbers."""
         return tuple(self._requests)
 
+    def copy(self):
+        """Return an equal line; what is done to one does not affect the other."""
+        return self._handed_to(Line(self._units))
+
+    def _handed_to(self, twin):
+        """Give a new line the same requests, and return it."""
+        twin._requests = list(self._requests)
+        return twin
+
     def _served(self):
         """Return the places of the waiting requests, in the order in which they will be served."""
         return [at for at, row in enumerate(self._requests) if not row[2]]
@@ -134,6 +143,10 @@ class RankLine(Line):
     def waiting(self):
         """Return (rank, process) for all waiting requests, in the order in which they will be served."""
         return super().waiting()
+
+    def copy(self):
+        """Return an equal line; what is done to one does not affect the other."""
+        return self._handed_to(RankLine(self._units))
 
     def _served(self):
         """Return the places of the waiting requests, in the order in which they will be served."""
@@ -192,6 +205,10 @@ class PreemptLine(RankLine):
         self._requests[at] = (lost_rank, victim, False)
         self._requests.append((rank, process, True))
         return victim
+
+    def copy(self):
+        """Return an equal line; what is done to one does not affect the other."""
+        return self._handed_to(PreemptLine(self._units))
 
     def _victim(self, rank, victims):
         """Return the place of the request that would lose its unit, or None."""

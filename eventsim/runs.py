@@ -25,8 +25,11 @@ class Run:
 
     def __init__(self, model, limit=None):
         resources, stores, gates, scripts = model
+        self._model = model
         self._limit = limit
         self.clock = 0
+        # How many entries of the agenda have come up.
+        self.removed = 0
         self.history = []
         self.lines = [new_line(discipline, units) for discipline, units in resources]
         self.stores = [Store(capacity, kept) for capacity, kept in stores]
@@ -40,6 +43,21 @@ class Run:
         for process in range(len(scripts)):
             self.schedule(process)
 
+    def copy(self):
+        """Return an equal run; later steps of one do not affect the other."""
+        twin = Run(self._model, self._limit)
+        twin.clock = self.clock
+        twin.removed = self.removed
+        twin.history = list(self.history)
+        twin.lines = [line.copy() for line in self.lines]
+        twin.stores = [store.copy() for store in self.stores]
+        twin.gates = [gate.copy() for gate in self.gates]
+        twin.rests = [rest.copy() for rest in self.rests]
+        twin._began = list(self._began)
+        twin._halts = list(self._halts)
+        twin.agenda = self.agenda.copy()
+        return twin
+
     def advance(self, time):
         """Go on until all entries with times up to the given one are removed."""
         rows = self.agenda.rows()
@@ -52,6 +70,7 @@ class Run:
         """Remove the first entry of the agenda, and let its process act."""
         time, process = self.agenda.rows()[0]
         self.agenda.drop(process)
+        self.removed += 1
         self.clock = time
         if self._began[process] is not None:
             self._began[process] = None

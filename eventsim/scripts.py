@@ -7,7 +7,16 @@ class Rest:
     def __init__(self, script):
         # Pairs (script, place): the instructions from the place on are left, those of the last pair come first.
         self._frames = []
+        # How often the body of a forever has begun.
+        self.rounds = 0
         self._push(script, 0)
+
+    def copy(self):
+        """Return an equal rest; what begins in one does not affect the other."""
+        twin = Rest(())
+        twin._frames = list(self._frames)
+        twin.rounds = self.rounds
+        return twin
 
     def begin(self):
         """Begin the next instruction, going into each body on the way; return it, or None at the end."""
@@ -18,6 +27,7 @@ class Rest:
             if instruction[0] == "repeat":
                 self._repeat(instruction[1], instruction[2])
             elif instruction[0] == "forever":
+                self.rounds += 1
                 self._push((instruction,), 0)
                 self._push(instruction[1], 0)
             else:
@@ -35,7 +45,7 @@ class Rest:
         if place < len(script):
             self._frames.append((script, place))
 
-    def left(self):
+    def remaining(self):
         """Return the script of the instructions that have not begun."""
         rows = []
         for script, place in reversed(self._frames):

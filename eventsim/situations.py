@@ -4,7 +4,7 @@
 def snapshot(run):
     """Return the situation of a run after the time to which it has advanced."""
     return (
-        tuple([(run.status(process), rest.left()) for process, rest in enumerate(run.rests)]),
+        tuple([(run.status(process), rest.remaining()) for process, rest in enumerate(run.rests)]),
         tuple([_requests(line) for line in run.lines]),
         tuple([(tuple(store.kept), tuple(store.getters), tuple(store.putters)) for store in run.stores]),
         tuple([(gate.word, tuple(gate.passers)) for gate in run.gates]),

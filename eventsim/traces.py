@@ -2,9 +2,10 @@
 
 from eventsim.checks import check_index, check_time, is_same
 from eventsim.errors import SituationError
-from eventsim.limits import LAST_TIME, MOST_EVENTS
+from eventsim.limits import LAST_TIME
 from eventsim.models import check_model
 from eventsim.runs import Run
+from eventsim.simulation import Simulation
 from eventsim.situations import snapshot
 
 
@@ -12,7 +13,7 @@ def trace(model, horizon):
     """Return the tuple of all events up to the horizon."""
     check_model(model)
     check_time(horizon, "the horizon")
-    return _happened(Run(model, MOST_EVENTS), horizon)
+    return _happened(Run(model, Simulation.MOST_EVENTS), horizon)
 
 
 def own_trace(model, process, horizon):
@@ -20,7 +21,7 @@ def own_trace(model, process, horizon):
     check_model(model)
     check_index(process, model[3], "the process")
     check_time(horizon, "the horizon")
-    return tuple([event for event in _happened(Run(model, MOST_EVENTS), horizon) if event[1] == process])
+    return tuple([event for event in _happened(Run(model, Simulation.MOST_EVENTS), horizon) if event[1] == process])
 
 
 def _happened(run, horizon):

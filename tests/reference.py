@@ -1,4 +1,4 @@
-"""A second simulation, written from points [30] to [61] in another way than the program: the tests compare both."""
+"""A second simulation, written from points [30] to [80] in another way than the program: the tests compare both."""
 
 import heapq
 import itertools
@@ -42,9 +42,13 @@ class Process:
 
 
 class Reference:
-    """The run up to a horizon: events, situations, lengths of lines, waits and holds."""
+    """The run up to a horizon: events, situations, lengths of lines, waits and holds.
 
-    def __init__(self, model, horizon):
+    Records, if they are kept, tell what there is at first and after each entry of the agenda: the time, the number of
+    events so far, and what a situation has, in which processes may be ready.
+    """
+
+    def __init__(self, model, horizon, keep_records=False):
         resources, stores, gates, scripts = model
         self.now = 0
         self.events, self.situations, self.lengths = [], [], []
@@ -63,6 +67,9 @@ class Reference:
         self.numbers = itertools.count()
         for process in self.processes:
             self.enter(process, 0)
+        self.keep_records = keep_records
+        self.records = []
+        self.record()
         for time in range(horizon + 1):
             self.go_on(time)
             self.situations.append(self.situation(time))
@@ -92,7 +99,12 @@ class Reference:
                 process.entry = None
                 self.now = entry[0]
                 self.act(process)
+                self.record()
         self.now = time
+
+    def record(self):
+        if self.keep_records:
+            self.records.append((self.now, len(self.events), self.situation(self.now)))
 
     def act(self, process):
         process.status, process.detail = "ready", ()
@@ -249,6 +261,8 @@ class Reference:
     # Situations.
 
     def status(self, process):
+        if process.status == "asleep" and process.entry[0] == self.now:
+            return ("ready",)
         if process.status == "asleep":
             return ("asleep", process.entry[0] - self.now)
         return (process.status, *process.detail)
@@ -314,3 +328,34 @@ def all_stuck(situation):
             if needed <= set(members):
                 found.append(members)
     return found
+
+
+def with_round_marks(model):
+    """The same model, in which each body of a forever begins with the mark 1000, which no model has."""
+    return (*model[:3], tuple(
+        script[:-1] + (("forever", (("mark", 1000), *script[-1][1])),) if script and script[-1][0] == "forever"
+        else script
+        for script in model[3]
+    ))
+
+
+def rhythm_of(model, last=200):
+    """What becomes of the run, by comparing all situations."""
+    run = Reference(with_round_marks(model), last)
+    views = run.situations
+    for time, view in enumerate(views):
+        unfinished = tuple(number for number, (status, _) in enumerate(view[0]) if status[0] != "finished")
+        if not unfinished:
+            return ("ends", time)
+        if not view[4]:
+            return ("stuck", time, unfinished)
+    for start, view in enumerate(views):
+        if view in views[start + 1:]:
+            period = views[start + 1:].index(view) + 1
+            marks = [event for event in run.events if event[2:] == ("mark", 1000)]
+            rounds = [
+                sum(event[1] == process and start < event[0] <= start + period for event in marks)
+                for process in range(len(model[3]))
+            ]
+            return ("cycle", start, period, tuple(rounds))
+    return ("open",)

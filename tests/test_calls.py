@@ -1,4 +1,4 @@
-"""Points [2], [3], [4] and the interface: how the functions of traces, measures and stuck sets are called."""
+"""Points [2], [3], [4] and the interface: how the functions that run a model are called."""
 
 import ast
 import copy
@@ -7,7 +7,7 @@ import itertools
 import pathlib
 import unittest
 
-from eventsim import measures, stuck, traces
+from eventsim import measures, rhythms, stuck, traces
 from eventsim.errors import ModelError, NumberError, SituationError
 from tests.samples import IDLE, made
 
@@ -53,6 +53,9 @@ INTERFACE = (
     (stuck, "is_stuck", ("model", "time", "thing")),
     (stuck, "largest_stuck", ("model", "time")),
     (stuck, "first_stuck", ("model", "horizon")),
+    (rhythms, "rhythm", ("model",)),
+    (rhythms, "is_rhythm", ("model", "thing")),
+    (rhythms, "pace", ("model", "process")),
 )
 
 
@@ -65,7 +68,7 @@ class Calls(unittest.TestCase):
             self.assertEqual(function.__module__, module.__name__)
 
     def test_defined_in_their_files(self):
-        for module in (traces, measures, stuck):
+        for module in (traces, measures, stuck, rhythms):
             tree = ast.parse(pathlib.Path(module.__file__).read_text())
             names = [node.name for node in tree.body if isinstance(node, ast.FunctionDef)]
             for other, name, _ in INTERFACE:
@@ -91,6 +94,7 @@ class Calls(unittest.TestCase):
             before = copy.deepcopy(thing)
             self.assertIsNone(traces.moment_of(MODEL, thing))
             self.assertIs(stuck.is_stuck(MODEL, 2, thing), False)
+            self.assertIs(rhythms.is_rhythm(MODEL, thing), False)
             with self.assertRaises(SituationError):
                 traces.resume(MODEL, thing, 5)
             self.assertEqual(thing, before)
@@ -136,9 +140,9 @@ class Kinds(unittest.TestCase):
 
     def test_kinds_of_results(self):
         self.assert_kinds(tuple, ("trace", "own_trace", "situation", "resume", "first_difference", "waits", "lengths",
-                                  "holds", "busy", "flow", "marks", "providers", "largest_stuck", "first_stuck"))
+                                  "holds", "busy", "flow", "marks", "providers", "largest_stuck", "first_stuck", "rhythm"))
         self.assert_kinds(int, ("moment_of", "total_wait", "area"), thing=VIEW)
-        self.assert_kinds(bool, ("is_stuck",))
+        self.assert_kinds(bool, ("is_stuck", "is_rhythm"))
 
     def assert_kinds(self, kind, wanted, **special):
         values = {**RIGHT, **special}
@@ -149,7 +153,7 @@ class Kinds(unittest.TestCase):
 
     def test_results_consist_of_tuples_integers_strings_and_none(self):
         for module, name, names in INTERFACE:
-            if name != "is_stuck":
+            if name not in ("is_stuck", "is_rhythm"):
                 self.check(getattr(module, name)(*[RIGHT[part] for part in names]), name)
 
     def check(self, thing, name):

@@ -197,7 +197,7 @@ class Classes(unittest.TestCase):
 
     def test_attributes_that_are_read_are_assigned_somewhere(self):
         known = set().union(*self.assigned.values(), *self.methods.values()) | self.properties
-        known |= set(dir(list)) | set(dir(dict)) | set(dir(str)) | {"MOST_UNITS", "__name__"}
+        known |= set(dir(list)) | set(dir(dict)) | set(dir(str)) | {"MOST_UNITS", "MOST_EVENTS", "setter", "__name__"}
         for file in FILES:
             for node in ast.walk(tree_of(file)):
                 if isinstance(node, ast.Attribute):
@@ -244,6 +244,47 @@ class Forms(unittest.TestCase):
                     if node.func.id in ("any", "all", "min", "max", "sum", "sorted"):
                         for argument in node.args:
                             self.assertNotIsInstance(argument, ast.GeneratorExp, (file.name, node.lineno))
+
+    def test_names_of_generators(self):
+        # A generator has its name alone, and the package does not call it.
+        names, generators = [], []
+        for file in FILES:
+            for node in ast.walk(tree_of(file)):
+                if isinstance(node, ast.FunctionDef):
+                    names.append(node.name)
+                    if any(isinstance(part, (ast.Yield, ast.YieldFrom)) for part in ast.walk(node)):
+                        generators.append(node.name)
+        self.assertEqual(generators, ["events"])
+        self.assertEqual(names.count("events"), 1)
+        for file in FILES:
+            for node in ast.walk(tree_of(file)):
+                self.assertFalse(isinstance(node, ast.Attribute) and node.attr == "events", (file.name, node))
+
+    def test_items_are_not_called(self):
+        # A simulation has a method of this name, which is no view of a dict.
+        for file in FILES:
+            for node in ast.walk(tree_of(file)):
+                if isinstance(node, ast.Call) and isinstance(node.func, ast.Attribute):
+                    self.assertNotEqual(node.func.attr, "items", (file.name, node.lineno))
+
+    def test_no_sort_no_try_no_imports_below_the_top(self):
+        for file in FILES:
+            tree = tree_of(file)
+            for node in ast.walk(tree):
+                self.assertNotIsInstance(node, ast.Try, file.name)
+                self.assertFalse(isinstance(node, ast.Attribute) and node.attr == "sort", file.name)
+                if isinstance(node, ast.ImportFrom):
+                    self.assertIn(node, tree.body, file.name)
+
+    def test_what_leaves_a_block(self):
+        # The rows of an exit are plain assignments of attributes and names.
+        for file in FILES:
+            for node in ast.walk(tree_of(file)):
+                if isinstance(node, ast.FunctionDef) and node.name == "__exit__":
+                    self.assertEqual([part.arg for part in node.args.args], ["self", "kind", "value", "trace"])
+                    for row in node.body:
+                        self.assertIsInstance(row, ast.Assign, file.name)
+                        self.assertIsInstance(row.value, ast.Attribute, file.name)
 
     def test_super_stands_directly_in_methods(self):
         inner = (ast.ListComp, ast.DictComp, ast.GeneratorExp, ast.Lambda)

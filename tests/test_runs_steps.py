@@ -105,6 +105,15 @@ class Agendas(unittest.TestCase):
         agenda.enter(5, 0)
         self.assertEqual(agenda.rows(), [(5, 1), (5, 2), (5, 0)])
 
+    def test_copy(self):
+        agenda = Agenda()
+        for time, process in ((5, 0), (5, 1)):
+            agenda.enter(time, process)
+        twin = agenda.copy()
+        agenda.drop(0)
+        twin.enter(5, 2)
+        self.assertEqual((agenda.rows(), twin.rows()), ([(5, 1)], [(5, 0), (5, 1), (5, 2)]))
+
 
 class Scripts(unittest.TestCase):
 
@@ -117,15 +126,33 @@ class Scripts(unittest.TestCase):
             instruction = rest.begin()
         self.assertEqual(found, [("mark", 1), ("wait", 1), ("wait", 1), ("mark", 2)])
         self.assertIsNone(rest.begin())
-        self.assertEqual(rest.left(), ())
+        self.assertEqual(rest.remaining(), ())
 
     def test_a_forever_does_not_grow(self):
         forever = ("forever", acts("wait 1", ("repeat", 2, acts("mark 1"))))
         rest = Rest((forever,))
         for _ in range(3000):
             rest.begin()
-        self.assertEqual(rest.left(), (forever,))
+        self.assertEqual(rest.remaining(), (forever,))
         self.assertLessEqual(len(rest._frames), 3)
+
+    def test_rounds(self):
+        rest = Rest(acts("mark 1", ("repeat", 3, acts("mark 2")), ("forever", acts("wait 1", ("repeat", 2, acts("mark 3"))))))
+        found = []
+        for _ in range(11):
+            rest.begin()
+            found.append(rest.rounds)
+        self.assertEqual(found, [0, 0, 0, 0, 1, 1, 1, 2, 2, 2, 3])
+
+    def test_copy(self):
+        rest = Rest((("forever", acts("mark 1, mark 2, wait 1")),))
+        for _ in range(4):
+            rest.begin()
+        twin = rest.copy()
+        left = rest.remaining()
+        self.assertEqual((twin.remaining(), twin.rounds), (left, 2))
+        self.assertEqual([twin.begin(), twin.begin(), twin.begin()], [("mark", 2), ("wait", 1), ("mark", 1)])
+        self.assertEqual((rest.remaining(), rest.rounds, twin.rounds), (left, 2, 3))
 
     def test_occurs(self):
         script = acts("put 0 7, get 1", ("repeat", 0, acts("put 1 7")), ("repeat", 1, acts("get 2")))
